@@ -84,7 +84,7 @@ class InsertPlan:
         sets = self._rows if self._query is None else self._query.result_rows(tables)
         for told in sets:
             row = self._new_row(told if self._rows is None else [formula.compute(()) for formula in told])
-            broken = self._storage.insert(table, row)
+            broken = self._storage.insert_row(table, row)
             if broken is None:
                 count += 1
                 counts.last_rowid = row[0]
@@ -139,7 +139,7 @@ class UpdatePlan:
             row = table.rows.get(rowid)
             if row is None:
                 continue
-            broken = self._storage.update(table, self._new_row(row), rowid)
+            broken = self._storage.update_row(table, self._new_row(row), rowid)
             if broken is None:
                 count += 1
             elif self.way != "ignore":

@@ -43,7 +43,7 @@ class Storage:
             return None
         return self._defaults[at].compute(())
 
-    def insert(self, table, row):
+    def insert_row(self, table, row):
         """Give a new row, a list, its rowid and store it."""
         self._apply_affinities(row)
         rowid = self._given_rowid(row)
@@ -52,7 +52,7 @@ class Storage:
         self._set_rowid(row, rowid)
         return self._put(table, row, None)
 
-    def update(self, table, row, old_rowid):
+    def update_row(self, table, row, old_rowid):
         """Store a list as the row that had a rowid before."""
         self._apply_affinities(row)
         rowid = self._given_rowid(row)
