@@ -31,9 +31,9 @@ def grouped(frames, terms):
         return [frames]
     columns = [sort_keys([term.compute(frame) for frame in frames], term.collation) for term in terms]
     members = {}
-    for at, frame in enumerate(frames):
-        members.setdefault(tuple([keys[at] for keys in columns]), []).append(frame)
-    return [members[key] for key in sorted(members)]
+    for at, member in enumerate(frames):
+        members.setdefault(tuple([keys[at] for keys in columns]), []).append(member)
+    return [members[key] for key in sorted(list(members))]
 
 
 def distinct_rows(rows, collations):

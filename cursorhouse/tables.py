@@ -76,4 +76,4 @@ class Table:
 
     def ordered_rows(self):
         """Return the list of the rows by ascending rowids."""
-        return [self.rows[rowid] for rowid in sorted(self.rows)]
+        return [self.rows[rowid] for rowid in sorted(list(self.rows))]
