@@ -172,7 +172,6 @@ class DeletePlan:
     family = "change"
 
     def __init__(self, delete, preparation):
-        self.way = "abort"
         self.table_name = delete.table_name
         form = preparation.table_named(delete.table_name).form
         # A collation or check that does not exist is an error although nothing is checked here.

@@ -120,18 +120,18 @@ class Connection:
 
     def leave(self, failed):
         """Commit or roll back, as the end of a `with` block does, and return False."""
-        self._session.require_ready()
-        if self._settings.mode is True:
-            return False
         if failed:
             self.rollback()
-            return False
+        else:
+            self._commit_or_roll_back()
+        return False
+
+    def _commit_or_roll_back(self):
         try:
             self.commit()
         except Error:
             self.rollback()
             raise
-        return False
 
     def iterdump(self):
         """Return the list of the statements that create the tables as the connection sees them."""

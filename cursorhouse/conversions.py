@@ -17,17 +17,11 @@ class Conversions:
         """Set the adapter of a kind, None removes it."""
         if kind not in KINDS:
             raise ProgrammingError()
-        if function is None:
-            self._adapters.pop(kind, None)
-        else:
-            self._adapters[kind] = function
+        self._adapters[kind] = function
 
     def set_converter(self, name, function):
         """Set the converter of a name, None removes it."""
-        if function is None:
-            self._converters.pop(name.lower(), None)
-        else:
-            self._converters[name.lower()] = function
+        self._converters[name.lower()] = function
 
     def converter(self, name):
         """Return the converter of a name, or None."""
@@ -125,8 +119,6 @@ def _converter_of_kind(declared, conversions):
 
 def converted_rows(rows, converters):
     """Return rows in which each value that is not NULL has been converted, if its column has a converter."""
-    if [converter for converter in converters if converter is not None] == []:
-        return rows
     return [_converted_row(row, converters) for row in rows]
 
 

@@ -103,7 +103,7 @@ class ExpressionReader(Reader):
         return node if names == [] else Collated(node, names)
 
     def _primary(self, is_behind_minus):
-        kind = self.kind_ahead(0)
+        kind = self.kind_ahead()
         if kind == "integer":
             return Literal(self.integer(is_behind_minus))
         if kind == "text":
@@ -120,7 +120,7 @@ class ExpressionReader(Reader):
 
     def integer(self, is_behind_minus):
         """Read an integer; only behind a minus it may be 1 more than the greatest one."""
-        require(self.kind_ahead(0) == "integer")
+        require(self.kind_ahead() == "integer")
         number = self.taken().value
         require(number <= GREATEST or is_behind_minus)
         return number

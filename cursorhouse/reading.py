@@ -1,6 +1,6 @@
 """Reading the tokens of a statement one after another."""
 
-from cursorhouse.errors import SQL_ERROR, OperationalError, require
+from cursorhouse.errors import require
 
 
 class Reader:
@@ -24,15 +24,12 @@ class Reader:
         at = self._at + distance
         return self._tokens[at].word if at < len(self._tokens) else ""
 
-    def kind_ahead(self, distance):
-        """Return the kind of a token that follows, "" if there is none."""
-        at = self._at + distance
-        return self._tokens[at].kind if at < len(self._tokens) else ""
+    def kind_ahead(self):
+        """Return the kind of the next token, "" if there is none."""
+        return "" if self.is_at_end() else self._tokens[self._at].kind
 
     def taken(self):
-        """Return the next token, whatever it is, and go behind it."""
-        if self.is_at_end():
-            raise OperationalError(SQL_ERROR)
+        """Return the next token, which has been looked at, and go behind it."""
         token = self._tokens[self._at]
         self._at += 1
         return token
@@ -56,7 +53,7 @@ class Reader:
 
     def is_at_name(self):
         """Tell whether the next token is a name, quoted or not."""
-        return self.kind_ahead(0) in ("name", "quoted")
+        return self.kind_ahead() in ("name", "quoted")
 
     def names_in_brackets(self):
         """Return the list of names, with commas between, in brackets."""

@@ -22,17 +22,11 @@ class Registry:
 
     def set_call(self, name, narg, outside):
         """Set a function or an aggregate, None removes it."""
-        if outside is None:
-            self._calls.pop((name.lower(), narg), None)
-        else:
-            self._calls[(name.lower(), narg)] = outside
+        self._calls[(name.lower(), narg)] = outside
 
     def set_collation(self, name, function):
         """Set a collation, None removes it."""
-        if function is None:
-            self._collations.pop(name.lower(), None)
-        else:
-            self._collations[name.lower()] = Collation(None, function)
+        self._collations[name.lower()] = None if function is None else Collation(None, function)
 
     def outside(self, name, count):
         """Return the function or aggregate for a call with so many arguments, or None."""

@@ -70,9 +70,7 @@ class Session:
             self.held = self._idle_lock()
 
     def close(self):
-        """Undo an open transaction, give the locks back and leave the database."""
-        self.opened = False
-        self.held = NO_LOCK
+        """Leave the database, and with it an open transaction and the locks."""
         self.closed = True
         self.database.dismiss(self._number)
 
@@ -182,12 +180,12 @@ class Session:
         self.held = SHARED
 
     def take_reserved(self):
-        """Take RESERVED; if it is refused, the lock is as before."""
-        before = self.held
-        self.take_shared()
+        """Take RESERVED; if it is refused, the lock is as before.
+
+        Whatever refuses SHARED refuses RESERVED, too, so that SHARED need not be taken first.
+        """
         if self.held >= RESERVED:
             return
         if self.database.strongest_other(self._number) >= RESERVED:
-            self.held = before
             raise OperationalError(BUSY)
         self.held = RESERVED

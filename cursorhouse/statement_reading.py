@@ -140,7 +140,7 @@ class StatementReader(SelectReader):
 
     def _declared_kind(self):
         mark = self.mark()
-        while self.kind_ahead(0) == "name":
+        while self.kind_ahead() == "name":
             self.taken()
         if self.tokens_since(mark) != [] and self.took("("):
             self._skip_signed_integer()
@@ -182,6 +182,6 @@ class StatementReader(SelectReader):
             return Signed([sign], Literal(self.integer(sign == "-")))
         if self.took("null"):
             return Literal(None)
-        if self.kind_ahead(0) == "text":
+        if self.kind_ahead() == "text":
             return Literal(self.taken().value)
         return Literal(self.integer(False))

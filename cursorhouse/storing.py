@@ -116,10 +116,8 @@ class Storage:
 
     def _has_equal_key(self, row, other, indexes):
         for at in indexes:
-            one = row[at + 1]
-            if one is None or other[at + 1] is None:
-                return False
-            if order_of(one, other[at + 1], self._collations[at]) != 0:
+            value = row[at + 1]
+            if value is None or order_of(value, other[at + 1], self._collations[at]) != 0:
                 return False
         return True
 

@@ -46,8 +46,8 @@ class ConnectTest(DatabaseTest):
         other.execute("begin exclusive")
         for name in ("isolation_level", "autocommit", "in_transaction", "total_changes", "lock"):
             self.refused(PROGRAMMING, getattr, self.db, name)
-        for call in (lambda: self.db.set_isolation_level(None), lambda: self.db.set_autocommit(True), lambda: self.db.set_row_factory(None),
-                     self.db.cursor, lambda: self.db.execute("select 1"), lambda: self.db.executemany("delete from t", []),
+        for call in (lambda: self.db.set_isolation_level(None), lambda: self.db.set_isolation_level(""), lambda: self.db.set_autocommit(True),
+                     lambda: self.db.set_row_factory(None), self.db.cursor, lambda: self.db.execute("select 1"), lambda: self.db.executemany("delete from t", []),
                      lambda: self.db.executescript(""), self.db.commit, self.db.rollback, self.db.enter, lambda: self.db.leave(True),
                      self.db.iterdump, lambda: self.db.create_function("f", 0, None), lambda: self.db.create_aggregate("f", 99, None),
                      lambda: self.db.create_collation("k", None)):
@@ -59,6 +59,14 @@ class ConnectTest(DatabaseTest):
             self.assertEqual((one.connection, one.description, one.rowcount, one.lastrowid, one.arraysize, one.row_factory),
                              (self.db, None, -1, None, 1, None))
         self.assertIsNone(self.db.row_factory)
+
+    def test_a_closed_connection_in_other_modes(self):
+        for mode in (True, False):
+            db = self.connect("", autocommit=mode)
+            db.close()
+            self.refused(PROGRAMMING, db.leave, False)
+            self.refused(PROGRAMMING, db.leave, True)
+            self.refused(PROGRAMMING, db.set_autocommit, -1)
 
     def test_a_closed_connection_gives_its_locks_back(self):
         self.run_all("create table t(a)", "insert into t values(1)")
@@ -283,6 +291,10 @@ class HistoryTest(DatabaseTest):
         self.assertEqual(self.library.history("db"), [
             (("create table t(a unique)", ()),), (("insert into t values(1)", ()), ("update t set a = 5", ())),
             (("insert or fail into t values(6), (5)", ()),), (("insert into t values(:x)", (1,)),), (("insert into t values(:x)", ("y",)),)])
+
+    def test_transactions_one_after_another(self):
+        self.run_all("begin", "create table t(a)", "commit", "begin", "insert into t values(1)", "commit", "savepoint s", "insert into t values(2)", "release s")
+        self.assertEqual([len(pairs) for pairs in self.library.history("db")], [1, 1, 1])
 
     def test_other_names(self):
         self.assertEqual(self.library.history("nosuch"), [])

@@ -54,7 +54,10 @@ class ExpressionsTest(DatabaseTest):
             "1 = 1": 1, "1 == 2": 0, "1 <> 2": 1, "1 != 1": 0, "1 < 2": 1, "2 <= 2": 1, "3 > 4": 0, "4 >= 4": 1,
             "5 < 'a'": 1, "'' > 9": 1, "1 = '1'": 0, "null is null": 1, "null is 1": 0, "1 is not null": 1,
             "1 is not 1": 0, "1 is 1": 1, "'a' is 'A'": 0, "1 < 2 < 3": 1, "3 > 2 > 1": 0, "1 = 1 = 1": 1, "2 = 2 = 2": 0,
-            "1 < 2 = 1": 1, "null is not null": 0, "null isnull": 1, "1 isnull": 0, "1 notnull": 1, "null not null": 0,
+            "1 < 2 = 1": 1, "2 = 2 < 3": 0, "2 == 2 < 3": 0, "1 <> 2 < 3": 0, "1 != 2 < 3": 0, "2 is 2 < 3": 0,
+            "1 is not 2 < 3": 0, "1 + 1 <= 2": 1, "3 >= 1 + 1": 1, "1 + 1 > 1": 1, "2 < 1 + 2": 1, "1 - 2 * 3": -5,
+            "2 <> 1": 1, "2 != 1": 1, "1 != 2": 1, "1 is not 2": 1, "2 is not 1": 1, "1 <> 1": 0, "6 * 1 || 2": 72,
+            "6 / 1 || 2": 0, "1 between 1 and 1 < 2": 1, "null is not null": 0, "null isnull": 1, "1 isnull": 0, "1 notnull": 1, "null not null": 0,
             "1 not null": 1, "null isnull isnull": 0, "1 = null isnull": 1, "null is null is 1": 1, "1 + 1 isnull": 0,
         })
         for expression in ("null = null", "1 = null", "null < 1", "null <> null", "null >= 'a'", "null between 1 and 2"):
@@ -90,7 +93,7 @@ class ExpressionsTest(DatabaseTest):
         self.same_values({
             "2 between 1 and 3": 1, "0 between 1 and 3": 0, "2 not between 1 and 3": 0, "1 in (1, 2)": 1,
             "3 in (1, 2)": 0, "3 not in (1, 2)": 1, "1 in (null, 1)": 1, "1 in ()": 0, "null in ()": 0,
-            "null not in ()": 1, "1 not in (1, null)": 0, "0 between 1 and null": 0, "2 between 1 and 2 and 0": 0,
+            "null not in ()": 1, "2 between null and 1": 0, "0 not between 1 and null": 1, "1 not in (1, null)": 0, "0 between 1 and null": 0, "2 between 1 and 2 and 0": 0,
             "1 between 0 and 1 between 1 and 1": 1, "1 in (1) in (1)": 1, "1 + 1 between 1 + 0 and 2 * 2": 1,
         })
         for expression in ("null in (1)", "3 in (1, null)", "3 not in (1, null)", "2 between null and 3",
@@ -106,7 +109,7 @@ class ExpressionsTest(DatabaseTest):
         self.assertIsNone(self.value("case 3 when 1 then 'a' end"))
 
     def test_where_operators_must_be_in_brackets(self):
-        for text in ("1 isnull < 1", "1 in (1) + 1", "1 between 1 and 2 * not 1", "1 = not 1", "- not 1", "1 + not 1",
+        for text in ("1 isnull < 1", "1 in (1) + 1", "1 between 1 and 2 * not 1", "1 = not 1", "- not 1", "1 + not 1", "1 not = 2", "1 notnull < 1", "1 not null < 2", "not 1 isnull < 1", "case 1 end",
                      "1 not null || 'a'", "1 is not null < 1", "1 in (1) < 2", "1 between 1 = 1 and 2", "not", "1 not",
                      "1 not 2", "1 like 2", "1 is", "1 between 1", "1 in 2", "1 in (select 1)", "1 collate 'x'", "(1, 2)",
                      "1 % 2", "1 & 2", "~1", "1 = = 1", "case end", "case when 1 end", "case 1 then 2 end", "()", "1.5"):

@@ -42,7 +42,8 @@ class FunctionsTest(DatabaseTest):
         self.assertEqual(self.rows(f"select f(), f(1), f(1, 2), f({nine})"), [(0, "one", 2, "nine")])
         self.refuses(ERROR, f"select f({nine}, 10)")
         self.db.create_function("f", 1, None)
-        self.assertEqual(self.rows("select f(5)"), [(1,)])
+        self.db.create_function("f", 9, None)
+        self.assertEqual(self.rows(f"select f(5), f({nine})"), [(1, 9)])
         for narg in (-2, 10, 100, True, False, None, "1", [1], 1.0):
             self.refused(PROGRAMMING, self.db.create_function, "f", narg, len)
             self.refused(PROGRAMMING, self.db.create_aggregate, "f", narg, None)
@@ -142,6 +143,14 @@ class CollationsTest(DatabaseTest):
         self.assertEqual(self.rows("select distinct b || '' collate len from t"), [("x",), (None,)])
         self.assertEqual(self.rows("select 'ab' in ('xy'), 'ab' collate len in ('xy'), nullif('a' collate len, 'b')"), [(0, 1, None)])
         self.assertEqual(self.rows("select group_concat(b) from t group by b collate len"), [(None,), ("5",), ("x,y,z",)])
+
+    def test_many_texts(self):
+        self.run_all("create table u(a)")
+        texts = [first + second for first in "dbacfe" for second in "xzy"]
+        self.db.executemany("insert into u values(?)", [(text,) for text in texts])
+        found = [row[0] for row in self.rows("select a from u order by a collate back")]
+        self.assertEqual(found, sorted(texts, reverse=True))
+        self.assertEqual(self.rows("select count(*) from u group by a collate back"), [(1,)] * 18)
 
     def test_it_is_told_only_texts(self):
         told = []

@@ -186,6 +186,11 @@ class ConvertingTest(DatabaseTest):
         self.found("select a from t limit 0", 1)
         self.assertEqual(self.told, [])
 
+    def test_a_column_without_a_declared_kind(self):
+        self.library.register_converter("", self.teller(""))
+        self.assertEqual(self.found("select c from t", 1)[1], [(2,)])
+        self.assertEqual(self.library.connect("db").execute("select a from t").fetchall(), [(1,)])
+
     def test_null_is_not_converted(self):
         self.assertEqual(self.found("select d, null as \"x [kind]\" from t", 3)[1], [(None, None)])
         self.assertEqual(self.told, [])

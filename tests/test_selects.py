@@ -102,6 +102,7 @@ class SelectsTest(DatabaseTest):
         self.assertEqual(self.rows("select rowid from t order by b desc"), [(3,), (1,), (2,), (4,)])
         self.assertEqual(self.rows("select rowid from t order by b collate binary"), [(4,), (2,), (1,), (3,)])
         self.assertEqual(self.rows("select b, a from t order by 2 desc, 1"), [("y", 3), ("X", 2), (None, 1), ("x", 1)])
+        self.assertEqual(self.rows("select rowid from t order by - a, + c desc"), [(3,), (2,), (4,), (1,)])
         self.assertEqual(self.rows("select a as c, c as d from t order by c"), [(1, 10), (1, 40), (2, None), (3, 30)])
         self.assertEqual(self.rows("select -a as c from t order by (c)"), [(-3,), (-2,), (-1,), (-1,)])
         self.assertEqual(self.rows("select -a as c from t order by c + 0"), [(-2,), (-1,), (-3,), (-1,)])

@@ -15,7 +15,7 @@ class TokensTest(DatabaseTest):
 
     def test_bad_tokens(self):
         for text in ("select 1a", "select 12_", "select 'abc", 'select "abc', 'select ""', "select #", "select [1]",
-                     "select 1 ! 2", "select 1 | 2", "select :", "select @", "select $ ", "select 1\t", "select 0x10",
+                     "select 1 ! 2", "select 1 | 2", "select :", "select @", "select $ ", "select 1\t", 'create table ""(a)', 'select 1 as ""', "create table w(a default -9223372036854775809)", "select 0x10",
                      "select 9223372036854775808", "select - (9223372036854775808)", "select 1 - 9223372036854775808",
                      "select -9223372036854775809", "select 99999999999999999999", "select 'a''", "#", "'"):
             self.refuses(ERROR, text)
@@ -178,6 +178,7 @@ class PreparingTest(DatabaseTest):
             self.run_all(f"create table if not exists {name}(x)", f"drop table {name}")
         self.run_all("select * from ga", "insert into ga values(1, 2, 3)", "insert into ga(b, c) values(1, 2)", "update ga set a = 1, c = 5",
                      "delete from ga", "update or replace ga set a = 1, b = null")
+        self.run_all("update or replace ga set rowid = 5")
         self.refuses(ERROR, "insert into ga(a, c) values(1, 2)", "insert into ga(a, b) values(1, 2)", "insert into ga default values",
                      "insert or replace into ga values(1, 2, 3)", "replace into ga(b, c) values(1, 2)", "update or replace ga set c = 1")
 

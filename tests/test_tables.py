@@ -56,6 +56,11 @@ class TablesTest(DatabaseTest):
         self.run_all("delete from t", "insert into t values(5)")
         self.assertEqual(self.table(), [(1, 5)])
 
+    def test_the_greatest_rowid(self):
+        self.run_all("create table t(a)", f"insert into t(rowid) values({GREATEST - 1})", "insert into t values(5)")
+        self.assertEqual(self.table()[-1], (GREATEST, 5))
+        self.refuses(FULL, "insert into t values(6)")
+
     def test_full(self):
         self.run_all("create table t(a integer primary key, b not null)", f"insert into t values({GREATEST}, 1)")
         self.refuses(FULL, "insert into t(b) values(1)", "insert or ignore into t(b) values(null)", "insert or fail into t values(3, 4), (null, 1)")
@@ -186,6 +191,13 @@ class TablesTest(DatabaseTest):
         # Row 1 takes the place of row 2; what is row 2 by then takes that of row 3, and this one becomes row 4.
         self.assertEqual(self.db.execute("update or replace t set a = a + 1").rowcount, 3)
         self.assertEqual(self.table(), [(4, 4, 3, "d")])
+
+    def test_replace_deletes_a_row_that_was_to_be_updated(self):
+        self.run_all("create table t(a, b unique)", "insert into t(rowid, a, b) values(5, 1, 1), (6, 2, 2), (7, 3, 3)")
+        self.assertEqual(self.db.execute("update or replace t set b = 4 - b").rowcount, 2)
+        self.assertEqual(self.table(), [(5, 1, 3), (6, 2, 2)])
+        self.run_all("insert or replace into t values(9, 3)")
+        self.assertEqual(self.table(), [(6, 2, 2), (7, 9, 3)])
 
     def test_update(self):
         self.run_all("create table t(a, b)", "insert into t values(1, 2), (3, 4), (5, 6)")

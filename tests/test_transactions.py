@@ -119,6 +119,9 @@ class TransactionsTest(DatabaseTest):
         self.run_all("begin", "savepoint a", "savepoint b", "savepoint c", "release b")
         self.refuses(ERROR, "rollback to c", "release b")
         self.run_all("release a", "rollback")
+        self.run_all("begin", "savepoint a", "savepoint b", "rollback to a")
+        self.refuses(ERROR, "release b", "rollback to b")
+        self.run_all("rollback to a", "rollback")
 
     def test_a_savepoint_opens_a_transaction(self):
         self.run_all("savepoint a")
@@ -134,7 +137,7 @@ class TransactionsTest(DatabaseTest):
         self.assertEqual((self.db.in_transaction, self.values()), (False, [1, 2, 3]))
 
     def test_release_within_a_begun_transaction_is_no_commit(self):
-        self.run_all("begin", "savepoint a", "insert into t values(2)", "release a")
+        self.run_all("savepoint x", "release x", "begin", "savepoint a", "insert into t values(2)", "release a")
         self.assertTrue(self.db.in_transaction)
         self.run_all("rollback")
         self.assertEqual(self.values(), [1])
@@ -244,6 +247,8 @@ class LocksTest(DatabaseTest):
         self.run_all("commit", "begin exclusive")
         self.assertEqual(self.db.lock, EXCLUSIVE)
         self.refused(BUSY, self.other.execute, "select * from t")
+        self.run_all("insert into t values(3)")
+        self.assertEqual(self.db.lock, EXCLUSIVE)
         self.run_all("commit")
 
     def test_begin_exclusive_beside_a_reader(self):
@@ -264,7 +269,9 @@ class LocksTest(DatabaseTest):
         self.refuses(BUSY, "commit")
         self.assertEqual((self.locks(), self.db.in_transaction), ([PENDING, SHARED, NO_LOCK], True))
         self.refused(BUSY, self.third.execute, "select * from t")
-        self.run_all("insert into t values(4)", "select * from t")
+        self.run_all("insert into t values(4)")
+        self.assertEqual(self.db.lock, PENDING)
+        self.run_all("select * from t")
         self.refuses(BUSY, "commit")
         cursor.fetchall()
         self.run_all("commit")
@@ -343,6 +350,25 @@ class LocksTest(DatabaseTest):
     def test_a_cursor_that_nobody_keeps_reads_on(self):
         self.db.execute("select * from t")
         self.refused(BUSY, self.other.execute, "insert into t values(5)")
+
+    def test_who_holds_shared_can_read_beside_pending(self):
+        cursor = self.db.execute("select * from t")
+        self.other.execute("begin")
+        self.other.execute("delete from t")
+        self.refused(BUSY, self.other.execute, "commit")
+        self.assertEqual(self.rows("select count(*) from t"), [(2,)])
+        cursor.close()
+        self.refuses(BUSY, "select count(*) from t")
+
+    def test_a_cursor_stops_reading_once(self):
+        ended = self.db.execute("select * from t")
+        ended.fetchall()
+        ended.close()
+        self.db.execute("select 1").fetchall()
+        self.run_all("begin")
+        self.db.execute("select * from t")
+        self.run_all("commit")
+        self.assertEqual(self.db.lock, SHARED)
 
     def test_two_cursors_keep_one_lock(self):
         one, two = self.db.execute("select * from t"), self.db.execute("select * from t")
