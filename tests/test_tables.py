@@ -188,6 +188,8 @@ class TablesTest(DatabaseTest):
         self.assertEqual(self.db.execute("update or replace t set b = 3, c = null where a = 1").rowcount, 1)
         self.assertEqual(self.table(), [(1, 1, 3, "d"), (2, 2, 2, 2)])
         self.run_all("insert into t values(3, 9, 9)")
+        self.run_all("create table u(a not null default 'z')", "insert into u values(1)", "update or replace u set a = null")
+        self.assertEqual(self.table("u"), [(1, "z")])
         # Row 1 takes the place of row 2; what is row 2 by then takes that of row 3, and this one becomes row 4.
         self.assertEqual(self.db.execute("update or replace t set a = a + 1").rowcount, 3)
         self.assertEqual(self.table(), [(4, 4, 3, "d")])
