@@ -6,7 +6,7 @@ from cursorhouse.execution import query_rows, run_plan
 from cursorhouse.rows import Row
 from cursorhouse.statements import first_group, prepared_statement, token_groups
 from cursorhouse.tokens import scan
-from cursorhouse.values import is_plain_int
+from cursorhouse.values import in_range, is_plain_int
 
 
 class Cursor:
@@ -201,6 +201,6 @@ class Cursor:
 
 
 def _checked_size(size):
-    if not is_plain_int(size) or size < 0:
+    if not is_plain_int(size) or size < 0 or not in_range(size):
         raise ProgrammingError()
     return size

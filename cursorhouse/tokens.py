@@ -1,6 +1,6 @@
 """The tokens of SQL texts."""
 
-from cursorhouse.values import BLANKS, DIGITS, GREATEST
+from cursorhouse.values import BLANKS, DIGITS, GREATEST, natural_number
 
 LETTERS = "abcdefghijklmnopqrstuvwxyzABCDEFGHIJKLMNOPQRSTUVWXYZ_"
 WORD_SIGNS = "abcdefghijklmnopqrstuvwxyzABCDEFGHIJKLMNOPQRSTUVWXYZ_0123456789"
@@ -93,10 +93,11 @@ def _word_token(sql, at):
 
 def _integer_token(sql, at):
     end = _run_end(sql, at, DIGITS)
-    number = int(sql[at:end])
+    number = natural_number(sql[at:end])
     # Behind a minus one more than the greatest integer is allowed; the parser knows where that is.
     if number > GREATEST + 1 or (end < len(sql) and sql[end] in LETTERS):
-        return Token("bad", sql, at, at + 1)
+        # One bad token for all digits, as nothing tells them apart and there may be thousands.
+        return Token("bad", sql, at, end)
     return Token("integer", sql, at, end, number)
 
 

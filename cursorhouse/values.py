@@ -4,6 +4,8 @@ GREATEST = 9223372036854775807
 LEAST = -9223372036854775808
 BLANKS = " \n"
 DIGITS = "0123456789"
+# A number of so many digits, without zeros in front, is beyond 64 bits.
+TOO_MANY_DIGITS = 20
 # The affinities; an expression that is no column has the last one, too.
 INTEGER = "INTEGER"
 TEXT = "TEXT"
@@ -32,14 +34,27 @@ def text_of(value):
     return str(value)
 
 
+def natural_number(digits):
+    """Return the number that digits, at least one, make; if it is beyond 64 bits, some number beyond them.
+
+    Python does not read several thousand digits, and the first ones tell enough.
+    """
+    bare = digits.lstrip("0")[:TOO_MANY_DIGITS]
+    return 0 if bare == "" else int(bare)
+
+
 def whole_number(text):
     """Return the integer that a text is, or None."""
     bare = text.strip(BLANKS)
     digits = bare[1:] if bare[:1] in ("+", "-") else bare
     if digits == "" or _digits_end(digits, 0) < len(digits):
         return None
-    number = int(bare)
+    number = _signed_number(bare[:1], digits)
     return number if in_range(number) else None
+
+
+def _signed_number(sign, digits):
+    return -natural_number(digits) if sign == "-" else natural_number(digits)
 
 
 def number_of(value):
@@ -55,7 +70,7 @@ def _leading_number(text):
     end = _digits_end(bare, start)
     if end == start:
         return 0
-    return max(LEAST, min(GREATEST, int(bare[:end])))
+    return max(LEAST, min(GREATEST, _signed_number(bare[:1], bare[start:end])))
 
 
 def _digits_end(text, at):

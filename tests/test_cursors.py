@@ -19,12 +19,12 @@ class AttributesTest(DatabaseTest):
 
     def test_arraysize(self):
         cursor = self.db.cursor()
-        for size in (0, 1, 5, 10 ** 20):
-            cursor.set_arraysize(size=size)
+        for size in (0, 1, 5, 2 ** 63 - 1):
+            self.assertIsNone(cursor.set_arraysize(size=size))
             self.assertEqual(cursor.arraysize, size)
-        for size in (-1, True, False, None, "1", [1], 1.0, -10 ** 20):
+        for size in (-1, True, False, None, "1", [1], (), {}, 1.0, -10 ** 20, 2 ** 63, 2 ** 64, 10 ** 30, -2 ** 63):
             self.refused(PROGRAMMING, cursor.set_arraysize, size)
-        self.assertEqual(cursor.arraysize, 10 ** 20)
+        self.assertEqual(cursor.arraysize, 2 ** 63 - 1)
 
     def test_a_closed_cursor(self):
         cursor = self.db.execute("select 1 as a")
@@ -279,6 +279,14 @@ class ExecutescriptTest(DatabaseTest):
         self.assertTrue(self.db.in_transaction)
         self.assertEqual(self.rows("select a from t"), [(1,), (3,), (5,), (7,)])
 
+    def test_integers_of_thousands_of_digits(self):
+        for digits in ("1" * 4301, "9" * 5000, "0" * 4400 + "1" * 30, "0" * 5000 + "9223372036854775808"):
+            self.run_all("delete from t")
+            self.refused(ERROR, self.db.executescript, "insert into t values(1); select " + digits)
+            self.assertEqual(self.rows("select a from t"), [(1,)])
+        self.db.executescript(f"insert into t values({'0' * 5000}7), (-{'0' * 5000}9223372036854775808)")
+        self.assertEqual(self.rows("select a from t"), [(1,), (7,), (-2 ** 63,)])
+
     def test_placeholders_are_null(self):
         self.db.executescript("insert into t values(?); insert into t values(coalesce(:x, @y, ?9, 'q'))")
         self.assertEqual(self.rows("select a from t"), [(None,), ("q",)])
@@ -341,12 +349,13 @@ class FetchTest(DatabaseTest):
     def test_fetchmany_with_sizes(self):
         self.cursor.set_arraysize(3)
         self.assertEqual(self.cursor.fetchmany(None), [(1,), (2,), (3,)])
-        for size in (-1, True, False, "1", [1], (), 2.0):
+        for size in (-1, True, False, "1", [1], (), 2.0, 2 ** 63, 2 ** 64, 10 ** 30, -10 ** 30):
             self.refused(PROGRAMMING, self.cursor.fetchmany, size)
         self.cursor.set_arraysize(0)
         self.assertEqual(self.cursor.fetchmany(), [])
-        self.assertEqual(self.cursor.fetchmany(size=10 ** 30), [(4,), (5,)])
+        self.assertEqual(self.cursor.fetchmany(size=2 ** 63 - 1), [(4,), (5,)])
         self.refused(PROGRAMMING, self.db.cursor().fetchmany, -1)
+        self.refused(PROGRAMMING, self.db.cursor().fetchmany, 2 ** 63)
 
     def test_a_returned_list_belongs_to_the_caller(self):
         self.cursor.fetchmany(2).clear()

@@ -45,6 +45,14 @@ class ValuesTest(DatabaseTest):
         })
         self.assertIsNone(self.value("null + 0"))
 
+    def test_the_number_of_a_text_of_thousands_of_digits(self):
+        """Texts beyond 400 characters, which are not specified, still raise no error of Python's own."""
+        many = "replace('" + "1" * 100 + "', '1', '" + "1" * 100 + "')"
+        self.same_values({f"{many} + 0": 2 ** 63 - 1, f"('-' || {many}) + 0": -2 ** 63, f"{many} || 'x' + 0": 2 ** 63 - 1,
+                          f"replace({many}, '1', '0') || '12' + 0": 12})
+        self.run_all("create table t(a integer)", f"insert into t values({many})")
+        self.assertEqual(self.rows("select typeof(a), length(a) from t"), [("text", 10000)])
+
     def test_truth(self):
         for value, wanted in (("0", 0), ("1", 1), ("-1", 1), ("'0'", 0), ("'0x1'", 0), ("' 2a'", 1), ("''", 0)):
             self.assertEqual(self.value(f"case when {value} then 1 else 0 end"), wanted)
