@@ -1,10 +1,6 @@
 """Databases: their committed tables, their history, and the connections that hold locks."""
 
-NO_LOCK = 0
-SHARED = 1
-RESERVED = 2
-PENDING = 3
-EXCLUSIVE = 4
+from cursorhouse.locks import NO_LOCK
 
 
 class Database:

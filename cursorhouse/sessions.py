@@ -1,7 +1,10 @@
 """What a connection does with its database: transactions, locks and counts."""
 
-from cursorhouse.databases import EXCLUSIVE, NO_LOCK, PENDING, RESERVED, SHARED
 from cursorhouse.errors import BUSY, OperationalError, ProgrammingError, require
+from cursorhouse.locks import (
+    EXCLUSIVE, NO_LOCK, PENDING, RESERVED, SHARED, idle_lock, is_exclusive_refused, is_reserved_refused,
+    is_shared_refused,
+)
 from cursorhouse.registry import Registry
 
 
@@ -67,7 +70,7 @@ class Session:
         """Note that one cursor less reads."""
         self.readers -= 1
         if not self.opened:
-            self.held = self._idle_lock()
+            self.held = idle_lock(self.readers > 0)
 
     def close(self):
         """Leave the database, and with it an open transaction and the locks."""
@@ -83,7 +86,7 @@ class Session:
         if level != "deferred":
             self.take_reserved()
         if level == "exclusive":
-            if self.database.strongest_other(self._number) >= SHARED:
+            if is_exclusive_refused(self.held, self._strongest_other()):
                 self.held = before
                 raise OperationalError(BUSY)
             self.held = EXCLUSIVE
@@ -93,8 +96,8 @@ class Session:
         """Commit the open transaction."""
         require(self.opened)
         if self.held >= RESERVED:
-            if self.database.strongest_other(self._number) >= SHARED:
-                self.held = max(self.held, PENDING)
+            if is_exclusive_refused(self.held, self._strongest_other()):
+                self.held = PENDING
                 raise OperationalError(BUSY)
             self.database.committed(self.seen_tables(), self._pairs)
         self._end()
@@ -108,7 +111,7 @@ class Session:
             self._tables = tables
             self._pairs.append(pair)
             return
-        if self.database.strongest_other(self._number) >= SHARED:
+        if is_exclusive_refused(self.held, self._strongest_other()):
             raise OperationalError(BUSY)
         self.database.committed(tables, [pair])
 
@@ -123,10 +126,7 @@ class Session:
         self._pairs = []
         self._savepoints = []
         self._opened_by_savepoint = False
-        self.held = self._idle_lock()
-
-    def _idle_lock(self):
-        return SHARED if self.readers > 0 else NO_LOCK
+        self.held = idle_lock(self.readers > 0)
 
     def control(self, plan):
         """Execute a transaction statement."""
@@ -173,19 +173,15 @@ class Session:
 
     def take_shared(self):
         """Take SHARED."""
-        if self.held >= SHARED:
-            return
-        if self.database.strongest_other(self._number) >= PENDING:
+        if is_shared_refused(self.held, self._strongest_other()):
             raise OperationalError(BUSY)
-        self.held = SHARED
+        self.held = max(self.held, SHARED)
 
     def take_reserved(self):
-        """Take RESERVED; if it is refused, the lock is as before.
-
-        Whatever refuses SHARED refuses RESERVED, too, so that SHARED need not be taken first.
-        """
-        if self.held >= RESERVED:
-            return
-        if self.database.strongest_other(self._number) >= RESERVED:
+        """Take RESERVED; if it is refused, the lock is as before."""
+        if is_reserved_refused(self.held, self._strongest_other()):
             raise OperationalError(BUSY)
-        self.held = RESERVED
+        self.held = max(self.held, RESERVED)
+
+    def _strongest_other(self):
+        return self.database.strongest_other(self._number)
