@@ -12,17 +12,18 @@ def is_shared_refused(held, other):
     return held < SHARED and other >= PENDING
 
 
-def is_reserved_refused(held, other):
-    """Tell whether a connection that holds a lock is refused RESERVED.
+def is_reserved_refused(other):
+    """Tell whether a connection is refused RESERVED.
 
-    Whatever refuses SHARED refuses RESERVED, too, so that SHARED need not be taken first.
+    One that holds it is not: no two connections hold RESERVED or more. Whatever refuses SHARED refuses RESERVED, too,
+    so that SHARED need not be taken first.
     """
-    return held < RESERVED and other >= RESERVED
+    return other >= RESERVED
 
 
-def is_exclusive_refused(held, other):
-    """Tell whether a connection that holds a lock is refused EXCLUSIVE."""
-    return held < EXCLUSIVE and other >= SHARED
+def is_exclusive_refused(other):
+    """Tell whether a connection is refused EXCLUSIVE; beside one that holds it no other one holds a lock."""
+    return other >= SHARED
 
 
 def idle_lock(is_reading):

@@ -86,7 +86,7 @@ class Session:
         if level != "deferred":
             self.take_reserved()
         if level == "exclusive":
-            if is_exclusive_refused(self.held, self._strongest_other()):
+            if is_exclusive_refused(self._strongest_other()):
                 self.held = before
                 raise OperationalError(BUSY)
             self.held = EXCLUSIVE
@@ -96,7 +96,7 @@ class Session:
         """Commit the open transaction."""
         require(self.opened)
         if self.held >= RESERVED:
-            if is_exclusive_refused(self.held, self._strongest_other()):
+            if is_exclusive_refused(self._strongest_other()):
                 self.held = PENDING
                 raise OperationalError(BUSY)
             self.database.committed(self.seen_tables(), self._pairs)
@@ -111,7 +111,7 @@ class Session:
             self._tables = tables
             self._pairs.append(pair)
             return
-        if is_exclusive_refused(self.held, self._strongest_other()):
+        if is_exclusive_refused(self._strongest_other()):
             raise OperationalError(BUSY)
         self.database.committed(tables, [pair])
 
@@ -179,7 +179,7 @@ class Session:
 
     def take_reserved(self):
         """Take RESERVED; if it is refused, the lock is as before."""
-        if is_reserved_refused(self.held, self._strongest_other()):
+        if is_reserved_refused(self._strongest_other()):
             raise OperationalError(BUSY)
         self.held = max(self.held, RESERVED)
 

@@ -8,9 +8,9 @@ from cursorhouse.locks import (
 
 MOST_SCRIPTS = 4
 MOST_STEPS = 8
-STEPS = ("begin", "immediate", "exclusive", "commit", "rollback", "read", "start", "stop", "write")
 OPENING = ("begin", "immediate", "exclusive")
 ENDING = ("commit", "rollback")
+ANYWHERE = ("read", "write")
 
 
 def checked_scripts(scripts):
@@ -26,7 +26,7 @@ def _checked_script(script):
     opened = False
     reads = False
     for step in script:
-        if not isinstance(step, str) or not _may_stand(step, opened, reads):
+        if not _may_stand(step, opened, reads):
             raise ProgrammingError()
         opened = is_open_behind(step, opened)
         reads = is_reading_behind(step, reads)
@@ -40,7 +40,7 @@ def _may_stand(step, opened, reads):
         return opened
     if step == "start":
         return not reads
-    return reads if step == "stop" else step in STEPS
+    return reads if step == "stop" else step in ANYWHERE
 
 
 def is_open_behind(step, opened):
@@ -56,17 +56,13 @@ def is_reading_behind(step, reads):
 def is_refused(step, opened, held, other):
     """Tell whether a step is refused to a connection that holds a lock, beside the strongest lock of another one."""
     if step == "commit":
-        return held >= RESERVED and is_exclusive_refused(held, other)
+        return held >= RESERVED and is_exclusive_refused(other)
     if step in ("read", "start"):
         return is_shared_refused(held, other)
-    if step == "immediate":
-        return is_reserved_refused(held, other)
-    if step == "exclusive":
-        return is_reserved_refused(held, other) or is_exclusive_refused(held, other)
-    if step == "write":
-        # Without a transaction it is one of its own, which is committed at once.
-        return is_reserved_refused(held, other) or (not opened and is_exclusive_refused(held, other))
-    return False
+    # Without a transaction a change is one of its own, which is committed at once.
+    if step == "exclusive" or (step == "write" and not opened):
+        return is_exclusive_refused(other)
+    return step in ("immediate", "write") and is_reserved_refused(other)
 
 
 def lock_of_refused(step, held):
