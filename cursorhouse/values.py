@@ -35,7 +35,7 @@ def text_of(value):
 
 
 def natural_number(digits):
-    """Return the number that digits, at least one, make; if it is beyond 64 bits, some number beyond them.
+    """Return the number that digits make, 0 of none; if it is beyond 64 bits, some number beyond them.
 
     Python does not read several thousand digits, and the first ones tell enough.
     """
@@ -68,8 +68,6 @@ def _leading_number(text):
     bare = text.lstrip(BLANKS)
     start = 1 if bare[:1] in ("+", "-") else 0
     end = _digits_end(bare, start)
-    if end == start:
-        return 0
     return max(LEAST, min(GREATEST, _signed_number(bare[:1], bare[start:end])))
 
 

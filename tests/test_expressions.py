@@ -94,7 +94,7 @@ class ExpressionsTest(DatabaseTest):
             "2 between 1 and 3": 1, "0 between 1 and 3": 0, "2 not between 1 and 3": 0, "1 in (1, 2)": 1,
             "3 in (1, 2)": 0, "3 not in (1, 2)": 1, "1 in (null, 1)": 1, "1 in ()": 0, "null in ()": 0,
             "null not in ()": 1, "2 between null and 1": 0, "0 not between 1 and null": 1, "1 not in (1, null)": 0, "0 between 1 and null": 0, "2 between 1 and 2 and 0": 0,
-            "1 between 0 and 1 between 1 and 1": 1, "1 in (1) in (1)": 1, "1 + 1 between 1 + 0 and 2 * 2": 1,
+            "1 between 0 and 1 between 1 and 1": 1, "1 = 5 between 4 and 6": 0, "1 = 5 not between 4 and 6": 1, "1 in (1) in (1)": 1, "1 + 1 between 1 + 0 and 2 * 2": 1,
         })
         for expression in ("null in (1)", "3 in (1, null)", "3 not in (1, null)", "2 between null and 3",
                            "2 between 1 and null", "null not in (1)", "null between 1 and 2"):

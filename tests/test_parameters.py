@@ -155,13 +155,17 @@ class ConvertingTest(DatabaseTest):
         self.assertEqual(self.found("select t.a as z, ((rowid)) from t", 1)[1], [(["Point", "1"], ["integer", "9"])])
         self.assertEqual(self.found("select max(a), case when 1 then a end from t", 1)[1], [(1, 1)])
 
+    def test_a_declared_kind_ends_before_a_bracket_or_a_space(self):
+        self.run_all("create table u(a KIND(5), b kind (6), c my kind(3), d kind\n(7))", "insert into u values(1, 2, 3, 4)")
+        self.assertEqual(self.found("select * from u", 1)[1], [(["kind", "1"], ["kind", "2"], ["my", "3"], 4)])
+
     def test_by_names(self):
         names, rows = self.found("select a as \"a [kind]\", 5 as \"q[x y]z\", 6 as \"[POINT]\", 7 as \"n [nosuch]\", a from t", 2)
         self.assertEqual((names, rows), (["a", "q", "", "n", "a"], [(["kind", "1"], ["x y", "5"], ["Point", "6"], 7, 1)]))
 
     def test_the_brackets_in_a_name(self):
         for name, converter, seen in (("a]b[kind]", "kind", "a]b"), ("a[b[kind]]", "kind", "a"), ("a[kind]b[my]", "kind", "a"), ("a  [kind]", "kind", "a "),
-                                      ("a [kind", None, "a"), ("kind]", None, "kind]"), ("a][", None, "a]"), ("a [ kind]", None, "a"), ("a\n[kind]", "kind", "a\n"),
+                                      ("a [kind", None, "a"), ("a [kindx", None, "a"), ("kind]", None, "kind]"), ("kindx", None, "kindx"), ("a][", None, "a]"), ("a [ kind]", None, "a"), ("a\n[kind]", "kind", "a\n"),
                                       ("[kind]", "kind", ""), (" [kind]", "kind", "")):
             names, rows = self.found(f"select 5 as \"{name}\"", 2)
             self.assertEqual((names, rows), ([seen], [(5,) if converter is None else ([converter, "5"],)]), name)

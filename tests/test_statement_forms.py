@@ -16,7 +16,7 @@ class TokensTest(DatabaseTest):
     def test_bad_tokens(self):
         for text in ("select 1a", "select 12_", "select 'abc", 'select "abc', 'select ""', "select #", "select [1]",
                      "select 1 ! 2", "select 1 | 2", "select :", "select @", "select $ ", "select 1\t", 'create table ""(a)', 'select 1 as ""', "create table w(a default -9223372036854775809)", "select 0x10",
-                     "select 9223372036854775808", "select - (9223372036854775808)", "select 1 - 9223372036854775808",
+                     "select 9223372036854775808", "select + 9223372036854775808", "select - + 9223372036854775808", "select 0 - 9223372036854775808", "select - (9223372036854775808)", "select 1 - 9223372036854775808",
                      "select -9223372036854775809", "select 99999999999999999999", "select 'a''", "#", "'"):
             self.refuses(ERROR, text)
 

@@ -183,6 +183,15 @@ class TablesTest(DatabaseTest):
         self.assertEqual(self.db.execute("replace into t(a, b) values(8, 8), (8, 9), (9, 9)").rowcount, 3)
         self.assertEqual([row[:3] for row in self.table()], [(1, 1, 2), (3, 3, 3), (9, 9, 9)])
 
+    def test_replace_of_a_rowid_alone(self):
+        self.run_all("create table t(a)", "insert into t values(2), (5)", "replace into t(rowid, a) values(1, 9)")
+        self.assertEqual(self.table(), [(1, 9), (2, 5)])
+
+    def test_a_column_called_rowid(self):
+        self.run_all("create table t(a, rowid text)", "insert into t(rowid, a) values(7, 1)", "update t set rowid = 8", "insert into t(ROWID) values('x')")
+        self.assertEqual(self.rows("select a, rowid, t.rowid from t"), [(1, "8", "8"), (None, "x", "x")])
+        self.assertEqual(self.rows("select last_insert_rowid()"), [(2,)])
+
     def test_replace_in_an_update(self):
         self.run_all("create table t(a integer primary key, b unique, c not null default 'd')", "insert into t values(1, 1, 1), (2, 2, 2), (3, 3, 3)")
         self.assertEqual(self.db.execute("update or replace t set b = 3, c = null where a = 1").rowcount, 1)

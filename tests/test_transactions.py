@@ -370,6 +370,17 @@ class LocksTest(DatabaseTest):
         self.run_all("commit")
         self.assertEqual(self.db.lock, SHARED)
 
+    def test_a_select_without_rows_does_not_read(self):
+        for end in ("close", "fetchall"):
+            empty = self.db.execute("select * from t where 0")
+            cursor = self.db.execute("select * from t")
+            getattr(empty, end)()
+            self.assertEqual(self.db.lock, SHARED)
+            self.run_all("begin", "commit")
+            self.assertEqual(self.db.lock, SHARED)
+            cursor.close()
+            self.assertEqual(self.db.lock, NO_LOCK)
+
     def test_two_cursors_keep_one_lock(self):
         one, two = self.db.execute("select * from t"), self.db.execute("select * from t")
         one.close()

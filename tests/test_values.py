@@ -17,7 +17,7 @@ class ValuesTest(DatabaseTest):
             "'a' = 'A'": 0, "'a' = 'A' collate nocase": 1, "'a' < 'B' collate NOCASE": 1, "'a' < 'B'": 0,
             "'a' = 'a  '": 0, "'a' = 'a  ' collate RTrim": 1, "'a' = ' a' collate rtrim": 0,
             "'[' < 'a'": 1, "'_' < 'A' collate nocase": 1, "'a' = 'A' collate rtrim": 0, "'a' = 'a ' collate nocase": 0,
-            "'a\n' = 'a' collate rtrim": 0,
+            "'a\n' = 'a' collate rtrim": 0, "'a~' = 'a' collate rtrim": 0, "'a ~ ' = 'a ~' collate rtrim": 1,
         })
 
     def test_names_are_the_same_in_letters_of_either_case(self):
