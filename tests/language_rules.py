@@ -327,7 +327,9 @@ def is_iterated(call):
         return parent.iter is call
     if isinstance(parent, ast.Call) and isinstance(parent.func, ast.Name):
         return parent.func.id in SPOT_CALLS
-    return isinstance(parent, ast.Compare)
+    # Of these only the keys of a dict and a range may stand behind `in` elsewhere.
+    name = getattr(call.func, "id", getattr(call.func, "attr", ""))
+    return isinstance(parent, ast.Compare) and name in ("keys", "range")
 
 
 def class_uses(module, classes):
